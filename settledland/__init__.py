@@ -1,0 +1,1 @@
+"""Settledland: the land that a text tells."""

@@ -1,0 +1,55 @@
+"""Some of the limits of the language that the package is written in."""
+
+import ast
+import unittest
+
+from pathlib import Path
+
+import settledland
+
+FOLDER = Path(settledland.__file__).parent
+FILES = sorted(FOLDER.glob("*.py"))
+
+
+class Language(unittest.TestCase):
+    def test_folder_holds_only_python_files(self):
+        others = [path.name for path in FOLDER.iterdir() if path not in FILES and path.name != "__pycache__"]
+        self.assertEqual(others, [])
+
+    def test_characters(self):
+        for path in FILES:
+            signs = set(path.read_bytes().decode("latin-1"))
+            self.assertEqual([sign for sign in signs if not (" " <= sign <= "~" or sign == "\n")], [], path)
+
+    def test_sizes(self):
+        for path in FILES:
+            lines = path.read_text().split("\n")
+            self.assertLess(len(lines), 400, path)
+            self.assertLessEqual(max(map(len, lines)), 120, path)
+
+    def test_sizes_of_functions(self):
+        for path in FILES:
+            for node in ast.walk(ast.parse(path.read_text())):
+                if isinstance(node, ast.FunctionDef):
+                    self.assertLessEqual(node.end_lineno - node.lineno + 1, 40, (path, node.name))
+
+    def test_imports(self):
+        for path in FILES:
+            for node in ast.walk(ast.parse(path.read_text())):
+                self.assertNotIsInstance(node, ast.Import, path)
+                if isinstance(node, ast.ImportFrom):
+                    self.assertEqual(node.level, 0, path)
+                    self.assertTrue(node.module.startswith("settledland."), path)
+                    self.assertNotIn("*", [name.name for name in node.names], path)
+
+    def test_strings_and_numbers(self):
+        for path in FILES:
+            for node in ast.walk(ast.parse(path.read_text())):
+                if isinstance(node, ast.Constant):
+                    self.assertNotIsInstance(node.value, (float, bytes), path)
+                    if isinstance(node.value, str):
+                        self.assertNotIn("%", node.value, path)
+
+
+if __name__ == "__main__":
+    unittest.main()
