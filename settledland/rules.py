@@ -8,7 +8,7 @@ def written_out(tree):
     """Returns the tuple of the things of a tree: tuples (name, kind, values)."""
     _, items = tree
     things = []
-    for _, name, count, kind, values in _items_of(items, "thing"):
+    for _, name, count, kind, values in items_of(items, "thing"):
         if count is None:
             things.append((name, kind, values))
         else:
@@ -16,8 +16,15 @@ def written_out(tree):
     return tuple(things)
 
 
-def _items_of(items, word):
+def items_of(items, word):
+    """Returns the list of the items that begin with this word."""
     return [item for item in items if item[0] == word]
+
+
+def table_of(kinds):
+    """Returns the kinds of a tree as a dict from names to dicts from fields to tuples
+    (target, marks)."""
+    return {name: {field: (target, marks) for field, target, marks in fields} for name, fields in kinds}
 
 
 def _values_of_copy(values, k):
@@ -43,7 +50,7 @@ def check_tree(tree):
     things = written_out(tree)
     _check_names(things)
     _check_singles(items)
-    table = {name: {field: (target, marks) for field, target, marks in fields} for name, fields in kinds}
+    table = table_of(kinds)
     kind_of = {name: kind for name, kind, _ in things}
     for _, kind, values in things:
         _check_thing(kind, values, table, kind_of)
@@ -74,7 +81,7 @@ def _check_kinds(kinds):
 
 def _check_size(items):
     # Counted, not written out: a text can tell of billions of copies.
-    counts = [1 if count is None else count for _, _, count, _, _ in _items_of(items, "thing")]
+    counts = [1 if count is None else count for _, _, count, _, _ in items_of(items, "thing")]
     if sum(counts) > MOST_THINGS:
         raise InvalidLand("things")
 
@@ -86,7 +93,7 @@ def _check_names(things):
 
 
 def _check_singles(items):
-    for _, _, count, _, values in _items_of(items, "thing"):
+    for _, _, count, _, values in items_of(items, "thing"):
         if count is not None:
             continue
         if "index" in [value[0] for _, value in values] or _has_mark_of_copies(_names_in(values)):
@@ -159,16 +166,16 @@ def _check_clash(things, table):
 
 
 def _check_items(items, kind_of):
-    kept = [name for _, name in _items_of(items, "keep")]
-    numbers = [number for _, number, _ in _items_of(items, "adopt")]
-    adopted = [name for _, _, name in _items_of(items, "adopt")]
-    old = [name for _, name, _ in _items_of(items, "move")]
-    new = [name for _, _, name in _items_of(items, "move")]
+    kept = [name for _, name in items_of(items, "keep")]
+    numbers = [number for _, number, _ in items_of(items, "adopt")]
+    adopted = [name for _, _, name in items_of(items, "adopt")]
+    old = [name for _, name, _ in items_of(items, "move")]
+    new = [name for _, _, name in items_of(items, "move")]
     if any([name not in kind_of for name in kept + adopted + new]):
         raise InvalidLand("items")
     if any([name in kind_of for name in old]):
         raise InvalidLand("items")
     if any([_has_twice(rows) for rows in (adopted, numbers, old, new)]):
         raise InvalidLand("items")
-    if len(_items_of(items, "most")) > 1:
+    if len(items_of(items, "most")) > 1:
         raise InvalidLand("items")
