@@ -25,6 +25,19 @@ class Land:
         self.moves = {new: old for _, old, new in items_of(items, "move")}
 
 
+class OwnLand:
+    """A copy of a land, for an object that keeps it whatever becomes of the dicts of the
+    land."""
+
+    def __init__(self, land):
+        self.kinds = {kind: dict(fields) for kind, fields in land.kinds.items()}
+        self.things = {name: (kind, dict(values)) for name, (kind, values) in land.things.items()}
+        self.keeps = land.keeps
+        self.most = land.most
+        self.adopts = dict(land.adopts)
+        self.moves = dict(land.moves)
+
+
 def _all_values(fields, values):
     stands = dict(values)
     return {field: stands.get(field, NONE) for field in fields}

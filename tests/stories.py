@@ -10,18 +10,18 @@ from settledland.lands import Land
 from settledland.outside import Outside
 
 KINDS = (
-    ("net", (("code", "", ("single",)), ("tag", "", ("empty", "single")), ("zone", "", ("fixed",)))),
+    ("net", (("zone", "", ("fixed",)), ("tag", "", ("empty", "single")), ("code", "", ("single",)))),
     (
         "box",
         (
-            ("at", "net", ("fixed",)),
-            ("port", "", ("empty", "single")),
-            ("size", "", ()),
-            ("under", "box", ("empty", "fixed")),
             ("via", "net", ("empty",)),
+            ("port", "", ("empty", "single")),
+            ("under", "box", ("empty", "fixed")),
+            ("at", "net", ("fixed",)),
+            ("size", "", ()),
         ),
     ),
-    ("dot", (("mark", "", ("empty", "fixed", "single")), ("near", "box", ("empty",)), ("of", "dot", ("empty",)))),
+    ("dot", (("of", "dot", ("empty",)), ("mark", "", ("empty", "fixed", "single")), ("near", "box", ("empty",)))),
 )
 NAMES = ("a", "b", "c", "d", "e", "f", "g")
 CALLS = ("fence", "make", "change", "take")
@@ -33,6 +33,7 @@ class Drawer:
     def __init__(self, seed, bars=0.1):
         self.dice = random.Random(seed)
         self.bars = bars
+        self.sums = (0, 0, 1, 4294966290)
 
     def chance(self, likely):
         return self.dice.random() < likely
@@ -45,7 +46,7 @@ class Drawer:
             names = [name for name, kind in before if kind == target]
             return ("name", self.dice.choice(names)) if names else ("none",)
         if before and self.chance(0.25):
-            return ("told", self.dice.choice(before)[0], self.dice.choice((0, 0, 1, 4294966290)))
+            return ("told", self.dice.choice(before)[0], self.dice.choice(self.sums))
         return ("number", self.dice.randrange(5))
 
     def values(self, kind, before):

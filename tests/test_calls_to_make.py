@@ -6,9 +6,10 @@ import unittest
 from tests.scenes import MARK, OWNER, DecidingCase, journal_of, look_of, made, thing
 
 KINDS = """
-    kind net { code: number single empty; size: number; zone: number fixed; }
-    kind box { at: ref net empty; hold: ref box fixed empty; port: number single; up: ref box empty; }
-    kind key { code: number single empty; tag: number single fixed empty; }
+    kind net { zone: number fixed; size: number; code: number single empty; }
+    kind box { up: ref box empty; at: ref net empty; port: number single; hold: ref box fixed empty; }
+    kind key { tag: number single fixed empty; code: number single empty; }
+    kind tip { tag: number single fixed empty; note: number empty; }
 """
 SETTLED = ("settled",)
 N = "thing n: net { zone = 3; size = 4; } "
@@ -242,6 +243,17 @@ class Clearings(CallCase):
         paper = (("make", "c", ("borne", "tag", 4)), ("take", 1, ("needed", 2)))
         things = (net(1, 6), box(2, at=1), key(4, None, 6))
         self.next_call("thing c: key { code = 6; tag = 6; }", things, ("stuck", paper), leftovers=(1,))
+
+    def test_number_in_a_field_that_is_not_single(self):
+        # The note of a is that of b, which cannot be made: it is not in the way of b.
+        text = "thing a: tip { note = told c; } thing b: tip { note = 7; tag = 1; } thing c: key { tag = 1; }"
+        things = (thing(1, "tip", note=7, tag=None), key(2, None, 1), thing(3, "tip", note=None, tag=1))
+        paper = (
+            ("change", "a", "note", ("wait", "c")),
+            ("make", "b", ("borne", "tag", 3)),
+            ("make", "c", ("borne", "tag", 2)),
+        )
+        self.next_call(text, things, ("stuck", paper), a=1)
 
     def test_number_that_is_wanted_by_a_thing_that_has_it(self):
         paper = (("change", "a", "code", ("borne", 3)),)

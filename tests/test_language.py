@@ -1,6 +1,7 @@
 """Some of the limits of the language that the package is written in."""
 
 import ast
+import builtins
 import unittest
 
 from pathlib import Path
@@ -9,6 +10,11 @@ import settledland
 
 FOLDER = Path(settledland.__file__).parent
 FILES = sorted(FOLDER.glob("*.py"))
+
+METHODS = (
+    "append clear copy count endswith extend find get index insert isalnum isalpha isdigit items join keys pop remove "
+    "replace setdefault split startswith strip update values"
+).split()
 
 
 class Language(unittest.TestCase):
@@ -41,6 +47,37 @@ class Language(unittest.TestCase):
                     self.assertEqual(node.level, 0, path)
                     self.assertTrue(node.module.startswith("settledland."), path)
                     self.assertNotIn("*", [name.name for name in node.names], path)
+
+    def test_names(self):
+        for path in FILES:
+            tree = ast.parse(path.read_text())
+            taken = {name.name for node in ast.walk(tree) if isinstance(node, ast.ImportFrom) for name in node.names}
+            taken |= {node.name for node in tree.body if isinstance(node, ast.ClassDef)}
+            taken |= set(dir(builtins))
+            for node in ast.walk(tree):
+                if isinstance(node, ast.arg):
+                    self.assertNotIn(node.arg, taken, path)
+                elif isinstance(node, ast.Name) and isinstance(node.ctx, ast.Store):
+                    self.assertNotIn(node.id, taken, path)
+            for node in tree.body:
+                if isinstance(node, (ast.FunctionDef, ast.ClassDef)):
+                    self.assertNotIn(node.name, set(dir(builtins)), path)
+
+    def test_methods_and_attributes(self):
+        for path in FILES:
+            for node in ast.walk(ast.parse(path.read_text())):
+                if isinstance(node, ast.ClassDef):
+                    methods = {part.name for part in node.body if isinstance(part, ast.FunctionDef)}
+                    stored = [part.attr for part in ast.walk(node) if isinstance(part, ast.Attribute) and isinstance(part.ctx, ast.Store)]
+                    self.assertEqual(methods & set(stored), set(), path)
+
+    def test_methods_of_builtin_values(self):
+        for path in FILES:
+            for node in ast.walk(ast.parse(path.read_text())):
+                if isinstance(node, ast.Call) and isinstance(node.func, ast.Attribute):
+                    own = node.func.attr == "__init__"
+                    if not own and any(hasattr(kind, node.func.attr) for kind in (str, list, dict, tuple, set, bytes, int)):
+                        self.assertIn(node.func.attr, METHODS, path)
 
     def test_strings_and_numbers(self):
         for path in FILES:

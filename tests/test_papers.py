@@ -100,9 +100,9 @@ class Order(PaperCase):
             ("make", "d", ("wait", "tag", "m")),
             ("make", "m", ("borne", "tag", 4)),
             ("take", 6, ("needed", 7)),
-            a=1,
-            b=2,
             e=3,
+            b=2,
+            a=1,
             leftovers=(6,),
         )
 
