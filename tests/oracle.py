@@ -20,7 +20,9 @@ class Oracle:
         self.told = []
         self.moment, self.fences, things, self.spent = look
         self.living = {
-            thing[0]: {"kind": thing[1], "values": dict(thing[2]), "version": thing[3], "told": thing[4], "token": thing[5]}
+            thing[0]: {
+                "kind": thing[1], "values": dict(thing[2]), "version": thing[3], "told": thing[4], "token": thing[5]
+            }
             for thing in things
         }
         self.reasons = []
@@ -218,7 +220,9 @@ class Oracle:
         rows = list(self.places())
         for number in self.state.leftovers:
             thing = self.living[number]
-            rows.extend((None, number, thing["kind"], field, thing["values"][field], None) for field in sorted(thing["values"]))
+            rows.extend(
+                (None, number, thing["kind"], field, thing["values"][field], None) for field in sorted(thing["values"])
+            )
         for name, number, kind, field, value, want in rows:
             if "fixed" in self.marks(kind, field) or "empty" not in self.marks(kind, field):
                 continue

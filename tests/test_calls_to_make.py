@@ -51,7 +51,8 @@ class Changes(CallCase):
         self.next_call(N, (net(1, size=9, version=7),), change(1, "size", 4, 7), n=1)
 
     def test_fixed_fields_are_not_changed(self):
-        self.next_call(N, (net(1, zone=9),), make(0, "net", code=None, size=4, zone=3), n=1, found=[("let", "n"), ("begin", "n", 0)])
+        result = make(0, "net", code=None, size=4, zone=3)
+        self.next_call(N, (net(1, zone=9),), result, n=1, found=[("let", "n"), ("begin", "n", 0)])
 
     def test_in_the_order_of_names_and_fields(self):
         text = "thing b: net { code = 1; size = 2; zone = 3; } thing a: net { code = 4; size = 5; zone = 3; }"
@@ -132,7 +133,9 @@ class Makes(CallCase):
         result = make(0, "net", code=None, size=4, zone=3)
         self.next_call(text, (), result, found=[("begin", "n", 0)])
         text = N + "thing a: box { hold = c; port = 1; } thing c: box { at = n; port = 2; }"
-        self.next_call(text, (net(1), net(2)), make(0, "box", at=1, hold=None, port=2, up=None), n=1, found=[("begin", "c", 0)])
+        self.next_call(
+            text, (net(1), net(2)), make(0, "box", at=1, hold=None, port=2, up=None), n=1, found=[("begin", "c", 0)]
+        )
 
     def test_values_of_fixed_fields_must_be_free_too(self):
         text = "thing a: key { tag = 1; } thing b: key { tag = 2; }"
@@ -199,8 +202,8 @@ class Clearings(CallCase):
         self.next_call(text, things, change(5, "up", None), b=2, leftovers=(5, 6))
 
     def test_in_the_order_of_names_and_fields(self):
-        text = "thing x: box { port = 1; up = c; } thing a: box { port = 2; up = c; at = n; } thing c: box { port = 3; }"
-        text += " thing n: net { code = 3; zone = 3; size = 1; }"
+        text = "thing x: box { port = 1; up = c; } thing a: box { port = 2; up = c; at = n; } "
+        text += "thing c: box { port = 3; } thing n: net { code = 3; zone = 3; size = 1; }"
         things = [net(1, 3), box(2, port=2, at=1, up=4), box(3, port=1, up=4), box(4, 1, port=3, hold=4)]
         bound = {"x": 3, "a": 2, "leftovers": (1, 4)}
         self.next_call(text, things, change(2, "at", None), **bound)
@@ -232,7 +235,9 @@ class Clearings(CallCase):
         things = (net(1, 6), box(2, at=1))
         self.next_call(text, things, change(1, "code", None), leftovers=(1,))
         found = [("begin", "c", 0)]
-        self.next_call(text, (net(1), box(2, at=1)), make(0, "net", code=6, size=4, zone=3), leftovers=(1,), found=found)
+        self.next_call(
+            text, (net(1), box(2, at=1)), make(0, "net", code=6, size=4, zone=3), leftovers=(1,), found=found
+        )
 
     def test_number_that_nobody_wants(self):
         paper = (("take", 1, ("needed", 2)),)

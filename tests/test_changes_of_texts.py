@@ -13,7 +13,9 @@ from tests.stories import Drawer
 
 KINDS = """
     kind net { zone: number fixed; size: number; note: number empty; }
-    kind box { at: ref net fixed; hold: ref box fixed empty; level: number fixed empty; port: number empty; up: ref net empty; }
+    kind box {
+        at: ref net fixed; hold: ref box fixed empty; level: number fixed empty; port: number empty; up: ref net empty;
+    }
 """
 N = "thing n: net { zone = 3; size = 4; } "
 M = "thing m: net { zone = 5; size = 6; } "
@@ -31,7 +33,8 @@ class Words(ChangeCase):
         self.check(N, N, n="same")
         b = "thing b: box { at = n; level = told n + 3; port = told n; up = n; } "
         self.check(N + b, b + N, n="same", b="same")
-        self.check(N + "thing b * 2: box { at = n; level = index; }", N + "thing b.0: box { at = n; level = 0; }", n="same", b_0="same", b_1="taken")
+        second = N + "thing b.0: box { at = n; level = 0; }"
+        self.check(N + "thing b * 2: box { at = n; level = index; }", second, n="same", b_0="same", b_1="taken")
 
     def test_made_and_taken(self):
         self.check("", N, n="made")
@@ -105,7 +108,9 @@ class Moves(ChangeCase):
     B = "thing b: box { at = n; hold = c; level = told c + 1; } thing c: box { at = n; up = n; } "
 
     def test_moved_names(self):
-        second = (N + self.B).replace("n:", "x:").replace("= n", "= x").replace("c:", "y:").replace("= c", "= y").replace("told c", "told y")
+        second = N + self.B
+        for old, new in (("n:", "x:"), ("= n", "= x"), ("c:", "y:"), ("= c", "= y"), ("told c", "told y")):
+            second = second.replace(old, new)
         self.check(N + self.B, second + "move n to x; move c to y;", x="same", y="same", b="same")
         self.check(N + self.B, second + "move n to x;", x="same", y="made", c="taken", b="new")
         self.check(N + self.B, second, x="made", y="made", n="taken", c="taken", b="new")

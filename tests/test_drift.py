@@ -99,7 +99,12 @@ class Drift(DriftCase):
         text = N + "thing b: key { } thing c: key { code = 1; } thing d: key { } thing e: key { }"
         entries = [("run", 1), ("begin", "d", 0), *journal_of(n=1, b=2, c=3, z=4, leftovers=(5,))[:-1]]
         rows = (
-            ("missing", "e"), ("begun", "d"), ("stray", "z"), ("kind", "b"), ("value", "c", "code", None, 1), ("left", 5),
+            ("missing", "e"),
+            ("begun", "d"),
+            ("stray", "z"),
+            ("kind", "b"),
+            ("value", "c", "code", None, 1),
+            ("left", 5),
         )
         look = look_of(net(1), net(2), key(3), key(4), key(5))
         self.check_drift(text, entries, look, *rows)
@@ -161,7 +166,9 @@ class Drift(DriftCase):
         rows = [("missing", name) for name in oracle.unbound() if name not in begun]
         rows += [("begun", name) for name in sorted(begun)]
         rows += [("stray", name) for name in sorted(set(bound) - set(land.things))]
-        other = [name for name in bound if name in land.things and oracle.thing_of(name)["kind"] != land.things[name][0]]
+        other = [
+            name for name in bound if name in land.things and oracle.thing_of(name)["kind"] != land.things[name][0]
+        ]
         rows += [("kind", name) for name in sorted(other)]
         for name in sorted(set(bound) & set(land.things) - set(other)):
             for field, value in sorted(oracle.thing_of(name)["values"].items()):
@@ -176,11 +183,15 @@ class Drift(DriftCase):
 class Cause(DriftCase):
     kinds = "kind net { zone: number fixed; } kind box { at: ref net fixed; hold: ref box fixed empty; } "
     TEXT = """
-        thing n: net { zone = 4; } thing m: net { zone = 3; } thing c: box { at = n; } thing b: box { at = m; hold = c; }
+        thing n: net { zone = 4; } thing m: net { zone = 3; } thing c: box { at = n; } thing b: box {
+            at = m; hold = c;
+        }
         thing a: box { at = m; hold = b; } thing d: box { at = m; }
     """
     LOOK = look_of(
-        thing(1, "net", zone=3), thing(2, "net", zone=3), thing(3, "box", at=1, hold=None), thing(4, "box", at=2, hold=3),
+        thing(1, "net", zone=3), thing(2, "net", zone=3), thing(3, "box", at=1, hold=None), thing(
+            4, "box", at=2, hold=3
+        ),
         thing(5, "box", at=2, hold=4), thing(6, "box", at=1, hold=None),
     )
 

@@ -268,8 +268,12 @@ class Drawn(unittest.TestCase):
                 worlds.run(land)
             for _ in range(50):
                 land = self.event(world, hand, land, drawer, dice, seen)
-                self.assertEqual(shown(world), (hand.told, hand.entries, hand.noted, hand.outside.look(), hand.outside.calls()))
-        for word in ("settled", "stuck", "barred", "old look", "fence", "make", "change", "take", "done", "old", "again"):
+                self.assertEqual(
+                    shown(world), (hand.told, hand.entries, hand.noted, hand.outside.look(), hand.outside.calls())
+                )
+        for word in (
+            "settled", "stuck", "barred", "old look", "fence", "make", "change", "take", "done", "old", "again"
+        ):
             self.assertGreater(seen[word], 2, word)
 
     def event(self, world, hand, land, drawer, dice, seen):

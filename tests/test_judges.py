@@ -49,7 +49,9 @@ class Previews(JudgeCase):
         self.wrong(N, journal_of(n=1), look_of(net(1)), [], [("n", ("removed",))])
 
     def test_other_results(self):
-        for result in (("stuck", ()), ("barred", "keep", "n"), ("overtaken",), ("old look",), (), ("settled", 1), "settled"):
+        for result in (
+            ("stuck", ()), ("barred", "keep", "n"), ("overtaken",), ("old look",), (), ("settled", 1), "settled"
+        ):
             self.wrong(N, journal_of(n=1), look_of(net(1)), [], result=result)
 
     def test_fence(self):
@@ -72,7 +74,9 @@ class Previews(JudgeCase):
 
     def test_old_look(self):
         self.wrong(N, journal_of(n=1), look_of(net(1), moment=39), [])
-        self.wrong(N, [("run", 1), ("begin", "n", 0), ("adopt", "x", 2, 60)], look_of(made(1, "net", 0, code=None, size=4, zone=3)), [])
+        look = look_of(made(1, "net", 0, code=None, size=4, zone=3))
+        self.right(N, [("run", 1), ("begin", "n", 0), ("adopt", "x", 2, 50)], look, [])
+        self.wrong(N, [("run", 1), ("begin", "n", 0), ("adopt", "x", 2, 60)], look, [])
 
     def test_calls_that_are_refused_or_change_nothing(self):
         entries, look = journal_of(n=1), look_of(net(1, size=9), box(3))
@@ -111,7 +115,9 @@ class Previews(JudgeCase):
             ((0, 1, 2), "amn", False),
             ((2, 1, 2), "amn", False),
         ):
-            self.assertIs(self.judge(text, entries, look_of(), [make_net(k) for k in numbers], names=names), right, numbers)
+            self.assertIs(
+                self.judge(text, entries, look_of(), [make_net(k) for k in numbers], names=names), right, numbers
+            )
         self.wrong(N, [("run", 1)], look_of(), [make_net(0, token=(6, 0))], names="n")
         self.right(N, [("run", 1)], look_of(), [make_net(0, token=(5, 0))], names="n")
 
@@ -157,7 +163,9 @@ class Previews(JudgeCase):
         self.wrong(text, entries, look, calls, [*reasons, ("m", ("removed",))], "mn")
         self.wrong(text, entries, look, calls, reasons, "m")
         # To take the thing that could stay is no preview.
-        self.wrong(text, entries, look, [make_net(0), make_net(1, zone=5), ("change", MARK, 1, 1, "size", 9)], reasons, "mn")
+        self.wrong(
+            text, entries, look, [make_net(0), make_net(1, zone=5), ("change", MARK, 1, 1, "size", 9)], reasons, "mn"
+        )
 
     def test_order_of_reasons(self):
         look, entries = look_of(net(1), net(2)), journal_of(n=1, m=2)
@@ -332,7 +340,9 @@ def call_changed(call, dice, mark):
             changed = (field, (value or 0) + 900)
             found.append((*call[:4], (*call[4][:at], changed, *call[4][at + 1 :])))
     elif word == "change":
-        found.extend([(*call[:3], call[3] + 1, *call[4:]), (*call[:5], (call[5] or 0) + 900), (*call[:2], call[2] + 900, *call[3:])])
+        found.append((*call[:3], call[3] + 1, *call[4:]))
+        found.append((*call[:5], (call[5] or 0) + 900))
+        found.append((*call[:2], call[2] + 900, *call[3:]))
     elif word == "take":
         found.extend([(*call[:3], call[3] + 1), (*call[:2], call[2] + 900, call[3])])
     return found
@@ -374,7 +384,9 @@ class Drawn(unittest.TestCase):
         for at in range(len(reasons)):
             self.wrong(scene, (calls, result, reasons[:at] + reasons[at + 1 :], names))
             self.wrong(scene, (calls, result, reasons[: at + 1] + reasons[at:], names))
-            self.wrong(scene, (calls, result, reasons[:at] + ((reasons[at][0], ("other",)),) + reasons[at + 1 :], names))
+            self.wrong(
+                scene, (calls, result, reasons[:at] + ((reasons[at][0], ("other",)),) + reasons[at + 1 :], names)
+            )
             if at and reasons[at] != reasons[at - 1]:
                 swapped = reasons[: at - 1] + (reasons[at], reasons[at - 1]) + reasons[at + 1 :]
                 self.wrong(scene, (calls, result, swapped, names))

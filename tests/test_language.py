@@ -68,15 +68,18 @@ class Language(unittest.TestCase):
             for node in ast.walk(ast.parse(path.read_text())):
                 if isinstance(node, ast.ClassDef):
                     methods = {part.name for part in node.body if isinstance(part, ast.FunctionDef)}
-                    stored = [part.attr for part in ast.walk(node) if isinstance(part, ast.Attribute) and isinstance(part.ctx, ast.Store)]
-                    self.assertEqual(methods & set(stored), set(), path)
+                    attributes = [part for part in ast.walk(node) if isinstance(part, ast.Attribute)]
+                    stored = {part.attr for part in attributes if isinstance(part.ctx, ast.Store)}
+                    self.assertEqual(methods & stored, set(), path)
 
     def test_methods_of_builtin_values(self):
         for path in FILES:
             for node in ast.walk(ast.parse(path.read_text())):
                 if isinstance(node, ast.Call) and isinstance(node.func, ast.Attribute):
                     own = node.func.attr == "__init__"
-                    if not own and any(hasattr(kind, node.func.attr) for kind in (str, list, dict, tuple, set, bytes, int)):
+                    if not own and any(
+                        hasattr(kind, node.func.attr) for kind in (str, list, dict, tuple, set, bytes, int)
+                    ):
                         self.assertIn(node.func.attr, METHODS, path)
 
     def test_strings_and_numbers(self):

@@ -151,7 +151,9 @@ class Reasons(NewnessCase):
             thing d: box { at = m; level = told e; } thing c: box { at = m; extra = d; }
             thing b: box { at = m; level = told c + 2; } thing a: box { at = m; size = told b; up = b; }
         """
-        things = (net(1), net(2), box(3, 1), box(4, 2, level=1021), box(5, 2, 4), box(6, 2, level=1037), box(7, 2, up=6))
+        things = (
+            net(1), net(2), box(3, 1), box(4, 2, level=1021), box(5, 2, 4), box(6, 2, level=1037), box(7, 2, up=6)
+        )
         bound = {"n": 1, "m": 2, "e": 3, "d": 4, "c": 5, "b": 6, "a": 7}
         self.assertEqual(
             self.lets(text, things, **bound),

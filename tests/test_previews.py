@@ -127,7 +127,9 @@ class Reports(PreviewCase):
     def test_change_to_a_thing(self):
         text = N + "thing b: box { at = n; up = c; port = 2; } thing c: box { port = 3; }"
         things = (net(1), box(2, port=2), box(3, port=3))
-        self.check_report(text, journal_of(n=1, b=2, c=3), look_of(*things), "change b at @1", "change b up @3", "settled")
+        self.check_report(
+            text, journal_of(n=1, b=2, c=3), look_of(*things), "change b at @1", "change b up @3", "settled"
+        )
 
     def test_clearing_of_a_bound_name(self):
         text = "thing a: key { code = 1; } thing b: key { code = 2; }"

@@ -44,7 +44,9 @@ class Rounds(RoundCase):
     def test_entries_of_steps_ahead_are_told(self):
         text = N + "thing m: net { zone = 3; size = 4; } keep n; move o to m;"
         entries = journal_of(n=1, o=2)
-        self.check_round(text, entries, look_of(net(2), net(1, zone=9)), ("barred", "keep", "n"), found=[("move", "o", "m")])
+        self.check_round(
+            text, entries, look_of(net(2), net(1, zone=9)), ("barred", "keep", "n"), found=[("move", "o", "m")]
+        )
         self.check_round("", journal_of(n=1), look_of(net(1)), take(1), found=[("let", "n")])
 
     def test_first_change_of_each_thing(self):
@@ -212,7 +214,9 @@ class Stories(unittest.TestCase):
             self.assertEqual((other.look(), other.calls()), (outside.look(), outside.calls()))
             self.assertEqual(owner.journal, before)
             if told[2] == ("settled",):
-                oracle = Oracle(owner.land, owner.number, before, (look[0], ((owner.number, State(before).run),), *look[2:]))
+                oracle = Oracle(
+                    owner.land, owner.number, before, (look[0], ((owner.number, State(before).run),), *look[2:])
+                )
                 oracle.ahead()
                 made_calls = [call for calls in rounds for call in calls if call[0] == "make"]
                 self.assertEqual(len(made_calls), len(oracle.unbound()))

@@ -5,6 +5,8 @@ import unittest
 
 from settledland.decider import decide
 from settledland.errors import InvalidJournal
+from settledland.lands import read_land
+from settledland.outside import Outside
 
 from tests.scenes import MARK, OWNER, DecidingCase, journal_of, look_of, made, thing
 
@@ -36,6 +38,21 @@ def make_box(k, at, up=None, mark=MARK):
 
 class StepCase(DecidingCase):
     kinds = KINDS
+
+
+class FirstDecisions(unittest.TestCase):
+    def test_fence_and_make(self):
+        land = read_land("kind net { zone: number fixed; } thing n: net { zone = 3; }")
+        outside = Outside(land.kinds)
+        self.assertEqual(decide(land, 5, [("run", 1)], outside.look()), ((), ("fence", (5, 1))))
+        self.assertEqual(outside.do(("fence", (5, 1))), ("done",))
+        make = ("make", (5, 1), (5, 0), "net", (("zone", 3),))
+        self.assertEqual(decide(land, 5, [("run", 1)], outside.look()), ((("begin", "n", 0),), make))
+        # The call is told again until the thing is seen.
+        entries = [("run", 1), ("begin", "n", 0)]
+        self.assertEqual(decide(land, 5, entries, outside.look()), ((), make))
+        outside.do(make)
+        self.assertEqual(decide(land, 5, entries, outside.look()), ((("bind", "n", 1, 2),), SETTLED))
 
 
 class Errors(StepCase):
@@ -228,7 +245,9 @@ class Moves(StepCase):
 
     def test_moves_keep_what_refers(self):
         text = N + B + "move m to n; move c to b;"
-        self.check(text, journal_of(m=1, c=2), look_of(net(1), box(2)), [("move", "c", "b"), ("move", "m", "n")], SETTLED)
+        self.check(
+            text, journal_of(m=1, c=2), look_of(net(1), box(2)), [("move", "c", "b"), ("move", "m", "n")], SETTLED
+        )
 
 
 class Adopts(StepCase):
@@ -244,7 +263,9 @@ class Adopts(StepCase):
 
     def test_values_that_are_not_fixed_are_changed(self):
         found = [("adopt", "n", 1, 50)]
-        self.check(self.TEXT, journal_of(), look_of(net(1, size=9, version=6)), found, ("change", MARK, 1, 6, "size", 4))
+        self.check(
+            self.TEXT, journal_of(), look_of(net(1, size=9, version=6)), found, ("change", MARK, 1, 6, "size", 4)
+        )
 
     def test_name_that_is_bound(self):
         self.check(self.TEXT, journal_of(n=2), look_of(net(1), net(2)), [], SETTLED)

@@ -49,8 +49,12 @@ INTERFACE = {
     "driven": ["Driven(self, land, owner)"],
 }
 METHODS = {
-    ("outside", "Outside"): ["do(call)", "make(kind, values)", "change(id_of_thing, field, value)", "take(id_of_thing)", "look()", "calls()"],
-    ("driven", "Driven"): ["run(land)", "decide(back)", "under_way()", "do(number)", "others()", "journal()", "events()", "calm()"],
+    ("outside", "Outside"): [
+        "do(call)", "make(kind, values)", "change(id_of_thing, field, value)", "take(id_of_thing)", "look()", "calls()"
+    ],
+    ("driven", "Driven"): [
+        "run(land)", "decide(back)", "under_way()", "do(number)", "others()", "journal()", "events()", "calm()"
+    ],
 }
 
 TEXT = """
@@ -170,15 +174,14 @@ class FromTextsToLands(unittest.TestCase):
         self.assertEqual(outside.look()[2][0], (1, "net", (("code", 12), ("zone", 0)), 2, 1007, ()))
 
     def test_largest_land(self):
-        kinds = "".join(
-            "kind k%d { a: number single; b: ref k%d empty fixed; c: number empty single; d: number; e: number; f: ref k%d empty; } "
-            % (k, max(k - 1, 0), k)
-            for k in range(6)
-        )
-        things = "".join(
-            f"thing t{k} * {10 if k < 4 else 0}: k{k} {{ a = index; c = index + 50; d = 4; e = 5; b = {f't{k - 1}.#' if k else 'none'}; }} "
-            for k in range(6)
-        )
+        kinds, things = "", ""
+        for k in range(6):
+            before = max(k - 1, 0)
+            kinds += f"kind k{k} {{ a: number single; b: ref k{before} empty fixed; c: number empty single; "
+            kinds += f"d: number; e: number; f: ref k{k} empty; }} "
+            need = f"t{k - 1}.#" if k else "none"
+            things += f"thing t{k} * {10 if k < 4 else 0}: k{k} {{ "
+            things += f"a = index; b = {need}; c = index + 50; d = 4; e = 5; }} "
         land = read_land(kinds + things)
         self.assertEqual(len(land.things), 40)
         outside = Outside(land.kinds)
@@ -187,7 +190,9 @@ class FromTextsToLands(unittest.TestCase):
         _, rounds, result = calm_rounds(land, 5, [("run", 1)], Outside(land.kinds))
         self.assertEqual((result, [len(row) for row in rounds]), (("settled",), [1, 10, 10, 10, 10]))
         # All numbers of a kind are exchanged in a ring.
-        other = read_land(kinds + things.replace("a = index", "a = index + 1").replace("c = index + 50", "c = index + 51"))
+        other = read_land(
+            kinds + things.replace("a = index", "a = index + 1").replace("c = index + 50", "c = index + 51")
+        )
         told = calm(other, 5, entries + [next_run(entries)], outside)
         self.assertEqual(told[2], ("settled",))
         check_told(self, other, 5, told[0], outside.look())

@@ -20,7 +20,15 @@ from tests.test_calls_to_make import KINDS, box, key, net
 
 KINDS_OF_LAND = read_land(KINDS).kinds
 TREE_OF_KINDS = (
-    ("box", (("at", "net", ("empty",)), ("hold", "box", ("empty", "fixed")), ("port", "", ("single",)), ("up", "box", ("empty",)))),
+    (
+        "box",
+        (
+            ("at", "net", ("empty",)),
+            ("hold", "box", ("empty", "fixed")),
+            ("port", "", ("single",)),
+            ("up", "box", ("empty",)),
+        ),
+    ),
     ("key", (("code", "", ("empty", "single")), ("tag", "", ("empty", "fixed", "single")))),
     ("net", (("code", "", ("empty", "single")), ("size", "", ()), ("zone", "", ("fixed",)))),
     ("tip", (("note", "", ("empty",)), ("tag", "", ("empty", "fixed", "single")))),
@@ -51,12 +59,14 @@ class Written(unittest.TestCase):
         self.assertEqual(list(kinds), ["b", "a"])
 
     def test_values_of_all_forms(self):
+        values = (("code", ("number", 7)), ("size", ("number", 4294967295)), ("zone", ("number", 3)))
+        more = (("at", ("name", "net.1")), ("port", ("number", 0)), ("up", ("name", "box.2")))
         self.check(
             (net(1, 7, 4294967295), box(2, at=1, port=0, up=2)),
             [1, 2],
-            ("thing", "net.1", None, "net", (("code", ("number", 7)), ("size", ("number", 4294967295)), ("zone", ("number", 3)))),
+            ("thing", "net.1", None, "net", values),
             ("adopt", 1, "net.1"),
-            ("thing", "box.2", None, "box", (("at", ("name", "net.1")), ("port", ("number", 0)), ("up", ("name", "box.2")))),
+            ("thing", "box.2", None, "box", more),
             ("adopt", 2, "box.2"),
         )
 
@@ -65,7 +75,10 @@ class Written(unittest.TestCase):
 
     def test_order_of_the_list(self):
         things = (key(1), key(5, 2), key(30))
-        row = {number: (("thing", f"key.{number}", None, "key", ()), ("adopt", number, f"key.{number}")) for number in (1, 30)}
+        row = {
+            number: (("thing", f"key.{number}", None, "key", ()), ("adopt", number, f"key.{number}"))
+            for number in (1, 30)
+        }
         row[5] = (("thing", "key.5", None, "key", (("code", ("number", 2)),)), ("adopt", 5, "key.5"))
         for ids in permutations((1, 5, 30)):
             self.check(things, list(ids), *[item for number in ids for item in row[number]])
@@ -182,7 +195,9 @@ class Taken(unittest.TestCase):
         self.check((box(1, up=1), box(2, port=1, hold=2), key(3)), [3, 2, 1], [3], [(1, 1), (2, 2)])
 
     def test_circles(self):
-        things = (box(1, up=2), box(2, port=1, up=3), box(3, port=2, up=1), box(4, port=3, up=3), net(5), box(6, port=6, at=5))
+        things = (
+            box(1, up=2), box(2, port=1, up=3), box(3, port=2, up=1), box(4, port=3, up=3), net(5), box(6, port=6, at=5)
+        )
         self.check(things, [1, 2, 3, 4, 5, 6], [4, 6, 5], [(1, 3), (2, 1), (3, 2)])
         self.check(things, [3, 2, 1], [], [(1, 3), (2, 1), (3, 2)])
 
@@ -210,7 +225,10 @@ class Taken(unittest.TestCase):
             for number, needer in stays:
                 self.assertEqual(outside.take(number), ("refused", "needed"))
                 found = [
-                    thing[0] for thing in things for field, value in thing[2] if kinds[thing[1]][field][0] and value == number
+                    thing[0]
+                    for thing in things
+                    for field, value in thing[2]
+                    if kinds[thing[1]][field][0] and value == number
                 ]
                 self.assertEqual(needer, min(found))
             self.assertEqual(list(stays), sorted(stays))
