@@ -17,9 +17,9 @@ class Sight:
         self._bearers = {}
         self._needers = {}
         for thing in things:
-            self._lay_out(kinds, thing)
+            self._add_thing(kinds, thing)
 
-    def _lay_out(self, kinds, thing):
+    def _add_thing(self, kinds, thing):
         id_of_thing, kind, values = thing[:3]
         filled = [pair for pair in values if pair[1] is not None]
         for field, value in filled:
